@@ -50,3 +50,18 @@ func (g *grid) meets(l []eval.Area) bool {
 	}
 	return false
 }
+
+const fewCells = 8
+
+// touches does so, too; cells are those of the set. If they are few, there is no need to go through the rows of great areas.
+func (g *grid) touches(cells []int, l []eval.Area) bool {
+	if len(cells) > fewCells {
+		return g.meets(l)
+	}
+	for _, c := range cells {
+		if inside(c, l) {
+			return true
+		}
+	}
+	return false
+}
