@@ -45,8 +45,14 @@ func english() *formula.Reader {
 
 // Read is the content that a text says.
 func Read(text string, l locale.Locale) (Content, api.Errno) {
-	return newTools(l).read(text)
+	// Only what this one text asks for is made.
+	if isFormula(text) {
+		return (&tools{formulas: formula.New(l), english: english()}).read(text)
+	}
+	return (&tools{entries: entry.New(l)}).read(text)
 }
+
+func isFormula(text string) bool { return text != "" && text[0] == '=' }
 
 func (t *tools) read(text string) (Content, api.Errno) {
 	switch {
@@ -54,7 +60,7 @@ func (t *tools) read(text string) (Content, api.Errno) {
 		return Content{}, api.ErrLong
 	case text == "":
 		return Content{}, api.OK
-	case text[0] == '=':
+	case isFormula(text):
 		return t.readFormula(text[1:])
 	case text[0] == '\'':
 		return constant(value.Text(text[1:])), api.OK
