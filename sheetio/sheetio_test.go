@@ -200,7 +200,6 @@ func TestO4(t *testing.T) {
 			lines[i], lines[k] = lines[k], lines[i]
 		case 1:
 			lines = slices.Delete(lines, i, i+1)
-			lines[len(lines)-1] += ""
 		case 2:
 			b := []byte(lines[i])
 			if len(b) > 0 {
