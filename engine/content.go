@@ -7,6 +7,7 @@ import (
 	"tabard/formula"
 	"tabard/locale"
 	"tabard/value"
+	"tabard/wording"
 )
 
 // Kinds of contents.
@@ -34,20 +35,14 @@ type tools struct {
 }
 
 func newTools(l locale.Locale) *tools {
-	return &tools{entry.New(l), formula.New(l), english(), eval.New(l)}
-}
-
-// english reads and writes formulas as the bounds of contents ask for them.
-func english() *formula.Reader {
-	l, _ := locale.Find("en")
-	return formula.New(l)
+	return &tools{entry.New(l), formula.New(l), wording.English(), eval.New(l)}
 }
 
 // Read is the content that a text says.
 func Read(text string, l locale.Locale) (Content, api.Errno) {
 	// Only what this one text asks for is made.
 	if isFormula(text) {
-		return (&tools{formulas: formula.New(l), english: english()}).read(text)
+		return (&tools{formulas: formula.New(l), english: wording.English()}).read(text)
 	}
 	return (&tools{entries: entry.New(l)}).read(text)
 }
@@ -75,10 +70,8 @@ func (t *tools) read(text string) (Content, api.Errno) {
 	if is, fail := ops.ToBool(value.Text(text)); fail == 0 {
 		return constant(value.Bool(is)), api.OK
 	}
-	for n := 1; formula.Fail(n) != ""; n++ {
-		if formula.Fail(n) == text {
-			return constant(value.Fail(n)), api.OK
-		}
+	if n := wording.Fail(text); n > 0 {
+		return constant(value.Fail(n)), api.OK
 	}
 	if len(text) > mostText {
 		return Content{}, api.ErrLong
@@ -106,7 +99,7 @@ func Right(c Content) bool {
 	if c.Kind != Formula {
 		return right(c, nil)
 	}
-	return right(c, english())
+	return right(c, wording.English())
 }
 
 // right needs a reader of English for formulas only.

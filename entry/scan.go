@@ -40,7 +40,13 @@ func (s *scanner) symbol(sign string) bool {
 }
 
 func (s *scanner) blanks() {
-	s.rest = strings.TrimLeftFunc(s.rest, isBlank)
+	for i, r := range s.rest {
+		if !isBlank(r) {
+			s.rest = s.rest[i:]
+			return
+		}
+	}
+	s.rest = ""
 }
 
 // sign tells whether there is a negative sign.

@@ -11,6 +11,7 @@ import (
 	"tabard/pattern"
 	"tabard/shortest"
 	"tabard/value"
+	"tabard/wording"
 )
 
 // Which line of a cell was the last one; they stand in this order.
@@ -48,7 +49,7 @@ func Load(text string) (*engine.Sheet, api.Errno, int) {
 	if len(text) > api.MaxFile {
 		return nil, api.ErrLong, 0
 	}
-	l := &loader{rest: text, numbers: shortest.New(), formulas: english(), last: -1}
+	l := &loader{rest: text, numbers: shortest.New(), formulas: wording.English(), last: -1}
 	s, err := l.head()
 	for ended := false; err == api.OK && !ended; {
 		ended, err = l.next()
@@ -210,7 +211,7 @@ func (l *loader) value(word, what string, most int) (api.Value, api.Errno) {
 			return value.Bool(what == "TRUE"), api.OK
 		}
 	case "error":
-		if n := failNumber(what); n > 0 {
+		if n := wording.Fail(what); n > 0 {
 			return value.Fail(n), api.OK
 		}
 	}

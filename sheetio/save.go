@@ -8,7 +8,6 @@ import (
 	"tabard/cell"
 	"tabard/engine"
 	"tabard/formula"
-	"tabard/locale"
 	"tabard/shortest"
 	"tabard/wording"
 )
@@ -60,12 +59,6 @@ func unquoted(s string) (byte, int) {
 	return 0, 0
 }
 
-// english reads and writes formulas as files have them.
-func english() *formula.Reader {
-	l, _ := locale.Find("en")
-	return formula.New(l)
-}
-
 // file is what has been written.
 type file struct {
 	strings.Builder
@@ -77,7 +70,7 @@ func Save(s *engine.Sheet) string {
 	if s == nil {
 		return ""
 	}
-	f := &file{numbers: shortest.New(), formulas: english()}
+	f := &file{numbers: shortest.New(), formulas: wording.English()}
 	f.line(firstLine)
 	f.line(localeWord + s.Name())
 	cells := s.Cells()
@@ -107,16 +100,6 @@ func (f *file) cell(s *engine.Sheet, i int) {
 	if p := s.Pattern(r); p != "" {
 		f.line(name + "pattern " + Quote(p))
 	}
-}
-
-// failNumber is the number of the error with that name, or 0.
-func failNumber(name string) int {
-	for n := 1; formula.Fail(n) != ""; n++ {
-		if formula.Fail(n) == name {
-			return n
-		}
-	}
-	return 0
 }
 
 // isCanonical tells whether s is a number in canonical decimal form.

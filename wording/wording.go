@@ -1,4 +1,4 @@
-// Package wording: how values are written in files and by scripts, for layers 22 and 23.
+// Package wording: words that sheets, files and scripts (layers 21 to 23) have in common.
 package wording
 
 import (
@@ -6,6 +6,7 @@ import (
 
 	"tabard/api"
 	"tabard/formula"
+	"tabard/locale"
 	"tabard/shortest"
 )
 
@@ -38,7 +39,10 @@ func Value(v api.Value, numbers *shortest.Writer) string {
 	case api.Number:
 		return "number " + numbers.Print(v.Bits)
 	case api.Bool:
-		return "bool " + Bool(v.Is)
+		if v.Is {
+			return "bool TRUE"
+		}
+		return "bool FALSE"
 	case api.Text:
 		return "text " + Quote(v.Text)
 	case api.Fail:
@@ -47,9 +51,18 @@ func Value(v api.Value, numbers *shortest.Writer) string {
 	return "empty"
 }
 
-func Bool(is bool) string {
-	if is {
-		return "TRUE"
+// Fail is the number of the error with that name, or 0.
+func Fail(name string) int {
+	for n := 1; formula.Fail(n) != ""; n++ {
+		if formula.Fail(n) == name {
+			return n
+		}
 	}
-	return "FALSE"
+	return 0
+}
+
+// English reads and writes formulas as files have them, and as the bounds of contents ask for them.
+func English() *formula.Reader {
+	l, _ := locale.Find("en")
+	return formula.New(l)
 }
