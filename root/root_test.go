@@ -97,7 +97,7 @@ func TestQ4(t *testing.T) {
 		}
 	})
 	for _, c := range []struct{ a, b, want float64 }{{7, 3, 1}, {-7, 3, -1}, {1e300, 7, 1}, {5, math.Inf(1), 5}, {-6, 3, math.Copysign(0, -1)}, {6, -4, 2}} {
-		if x := Mod(bitsOf(c.a), bitsOf(c.b)); x != bitsOf(c.want) && c.a != 1e300 {
+		if x := Mod(bitsOf(c.a), bitsOf(c.b)); x != bitsOf(c.want) {
 			t.Error(c, num(x))
 		}
 	}
