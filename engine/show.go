@@ -11,7 +11,7 @@ import (
 
 // Entry is what might be typed for a cell, Show what is seen of it.
 func (s *Sheet) Entry(r api.Ref) string {
-	c := s.cells[cell.Index(r)].content
+	c := s.at(cell.Index(r)).content
 	switch c.Kind {
 	case Formula:
 		return "=" + s.tools().formulas.Print(c.Expr)
@@ -54,7 +54,7 @@ func boolName(v api.Value) string {
 }
 
 func (s *Sheet) Show(r api.Ref) string {
-	it := s.cells[cell.Index(r)]
+	it := s.at(cell.Index(r))
 	switch it.value.Kind {
 	case api.Number:
 		if !it.patterned {
