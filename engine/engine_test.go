@@ -105,11 +105,17 @@ func TestP1(t *testing.T) {
 		c  Content
 		ok bool
 	}{
-		{Content{}, true}, {con(num(1)), true}, {con(is(false)), true}, {con(fail(8)), true}, {con(txt(rep("a", 999))), true}, {con(txt(rep("a", 1000))), false}, {con(api.Value{}), false}, {con(num(math.Inf(1))), false}, {con(fail(9)), false}, {Content{Value: num(1)}, false}, {Content{Expr: form("1").Expr}, false}, {Content{Expr: api.Expr{B: api.Ref{AbsRow: true}}}, false}, {Content{Kind: Constant, Value: num(1), Expr: form("1").Expr}, false}, {Content{Kind: Formula, Value: num(1), Expr: form("1").Expr}, false}, {form("A1:B2"), true}, {Content{Kind: Formula}, false}, {Content{Kind: 3}, false}, {Content{Kind: -1}, false}, {long, false}, {Content{Kind: Formula, Expr: api.Expr{Kind: api.XText, Text: rep("a", 997)}}, true}, {Content{Kind: Constant, Value: num(1), Expr: api.Expr{Kids: []api.Expr{}}}, true}, {Content{Kind: Constant, Value: num(1), Expr: api.Expr{Kids: make([]api.Expr, 1)}}, false},
+		{Content{}, true}, {con(num(1)), true}, {con(is(false)), true}, {con(fail(8)), true}, {con(txt(rep("a", 999))), true}, {con(txt(rep("a", 1000))), false}, {con(api.Value{}), false}, {con(num(math.Inf(1))), false}, {con(fail(9)), false}, {Content{Value: num(1)}, false}, {Content{Expr: form("1").Expr}, false}, {Content{Expr: api.Expr{B: api.Ref{AbsRow: true}}}, false}, {Content{Expr: api.Expr{A: api.Ref{Col: 1}}}, false}, {Content{Expr: api.Expr{Kind: 1}}, false}, {Content{Expr: api.Expr{Bits: 1}}, false}, {Content{Expr: api.Expr{Text: "a"}}, false}, {Content{Expr: api.Expr{Is: true}}, false}, {Content{Expr: api.Expr{Fail: 1}}, false}, {Content{Expr: api.Expr{Kids: make([]api.Expr, 1)}}, false}, {Content{Kind: Constant, Value: num(1), Expr: form("1").Expr}, false}, {Content{Kind: Formula, Value: num(1), Expr: form("1").Expr}, false}, {form("A1:B2"), true}, {Content{Kind: Formula}, false}, {Content{Kind: 3}, false}, {Content{Kind: -1}, false}, {long, false}, {Content{Kind: Formula, Expr: api.Expr{Kind: api.XText, Text: rep("a", 997)}}, true}, {Content{Kind: Constant, Value: num(1), Expr: api.Expr{Kids: []api.Expr{}}}, true}, {Content{Kind: Constant, Value: num(1), Expr: api.Expr{Kids: make([]api.Expr, 1)}}, false},
 	} {
 		if Right(c.c) != c.ok {
 			t.Error(i)
 		}
+	}
+}
+
+func TestP1Constants(t *testing.T) {
+	if Nothing != 0 || Constant != 1 || Formula != 2 {
+		t.Error("constants")
 	}
 }
 

@@ -136,6 +136,33 @@ func TestF2Round(t *testing.T) {
 	}
 }
 
+// A number halfway between two, and a bit far below: where the bits that are dropped lie in limbs of any kind.
+func TestF2Ties(t *testing.T) {
+	for shift := range 150 {
+		tie, _ := nat.Shl(nat.Of(1<<53+1), shift)
+		if x := Round(false, tie, -shift, false); x != bitsOf(1<<53) {
+			t.Fatalf("%d: %x", shift, x)
+		}
+		for low := range shift {
+			bit, _ := nat.Shl(nat.Of(1), low)
+			n, _ := nat.Add(tie, bit)
+			if x := Round(false, n, -shift, false); x != bitsOf(1<<53+2) {
+				t.Fatalf("%d %d: %x", shift, low, x)
+			}
+			n, _ = nat.Sub(tie, bit)
+			if x := Round(false, n, -shift, false); x != bitsOf(1<<53) {
+				t.Fatalf("%d %d: %x", shift, low, x)
+			}
+		}
+	}
+}
+
+func TestF1Constants(t *testing.T) {
+	if Zero != 0 || Small != 1 || Normal != 2 || Endless != 3 || None != 4 {
+		t.Error("constants")
+	}
+}
+
 func TestF3(t *testing.T) {
 	for _, x := range []uint64{0x7FF0000000000001, 0xFFF8000000000000, api.NaN, math.MaxUint64} {
 		if Neg(x) != api.NaN || Abs(x) != api.NaN || Next(x) != api.NaN || Prev(x) != api.NaN {

@@ -101,7 +101,7 @@ func TestM1(t *testing.T) {
 		a  Arg
 		ok bool
 	}{
-		{row(1, 1), true}, {row(2, 1, empty, "a", fVal), true}, {Arg{Cols: 1, Rows: 1, Cells: []api.Value{num(1)}}, true}, {Arg{}, false}, {Arg{Cols: 1, Rows: 1}, false}, {Arg{Cols: 2, Rows: 1, Cells: make([]api.Value, 2)}, false}, {Arg{Area: true, Cols: 4097, Rows: 1, Cells: make([]api.Value, 4097)}, false}, {Arg{Area: true, Cols: 4096, Rows: 1, Cells: make([]api.Value, 4096)}, true}, {Arg{Area: true, Cols: 64, Rows: 64, Cells: make([]api.Value, 4096)}, true}, {Arg{Area: true, Cols: 65, Rows: 64, Cells: make([]api.Value, 65*64)}, false},
+		{row(1, 1), true}, {row(2, 1, empty, "a", fVal), true}, {Arg{Cols: 1, Rows: 1, Cells: []api.Value{num(1)}}, true}, {Arg{}, false}, {Arg{Cols: 1, Rows: 1}, false}, {Arg{Cols: 2, Rows: 1, Cells: make([]api.Value, 2)}, false}, {Arg{Area: true, Cols: 4097, Rows: 1, Cells: make([]api.Value, 4097)}, false}, {Arg{Area: true, Cols: 4096, Rows: 1, Cells: make([]api.Value, 4096)}, true}, {Arg{Area: true, Cols: 1, Rows: 4096, Cells: make([]api.Value, 4096)}, true}, {Arg{Area: true, Cols: 1, Rows: 4097, Cells: make([]api.Value, 4097)}, false}, {Arg{Area: true, Cols: 64, Rows: 64, Cells: make([]api.Value, 4096)}, true}, {Arg{Area: true, Cols: 65, Rows: 64, Cells: make([]api.Value, 65*64)}, false},
 		{Arg{Area: true, Cols: 2, Rows: 2, Cells: make([]api.Value, 3)}, false}, {Arg{Area: true, Cols: -1, Rows: -1, Cells: make([]api.Value, 1)}, false}, {Arg{Area: true, Cols: 1 << 32, Rows: 1 << 32}, false}, {Arg{Area: true, Cols: math.MaxInt, Rows: 2}, false}, {row(1, fail(9)), false}, {row(1, math.NaN()), false}, {row(2, 1, strings.Repeat("a", 1001)), false},
 	} {
 		if Right(c.a) != c.ok {
@@ -116,15 +116,32 @@ func TestM1(t *testing.T) {
 	if Names()[0] != "ABS" {
 		t.Error("Names shares memory")
 	}
+}
+
+// arities are how many arguments the functions take, as the document's table has them; 99 stands for any number.
+const arities = "0 0 PI TRUE FALSE NA;0 99 SUM PRODUCT SUMSQ AVERAGE MIN MAX MEDIAN COUNT COUNTA CONCAT;1 99 GCD LCM AND OR XOR;2 99 CHOOSE;" +
+	"1 1 COUNTBLANK ABS SIGN INT SQRT EVEN ODD FACT NOT ISBLANK ISNUMBER ISTEXT ISLOGICAL ISERROR ISNA N T ROWS COLUMNS LEN UPPER LOWER TRIM VALUE;" +
+	"1 2 TRUNC CEILING FLOOR LEFT RIGHT;2 2 LARGE SMALL ROUND ROUNDUP ROUNDDOWN MOD QUOTIENT POWER IFERROR IFNA MATCH REPT EXACT TEXT;2 3 IF INDEX FIND;3 3 MID SUBSTITUTE"
+
+func TestM2Arity(t *testing.T) {
 	c := caller("en")
-	for _, name := range Names() {
-		least, most, ok := arity(name)
-		if !ok {
-			t.Error(name)
+	all := []string{}
+	for _, group := range strings.Split(arities, ";") {
+		words := strings.Fields(group)
+		for _, name := range words[2:] {
+			all = append(all, name)
+			for n := range 6 {
+				ok := n >= int(words[0][0]-'0') && (words[1] == "99" || n <= int(words[1][0]-'0'))
+				least, most, is := arity(name)
+				if !is || (least <= n && n <= most) != ok || !ok && c.Call(name, args(slices.Repeat(in{1}, n))) != fVal {
+					t.Error(name, n)
+				}
+			}
 		}
-		if least > 0 && c.Call(name, make([]Arg, least-1)) != fVal || most < 10 && c.Call(name, make([]Arg, most+1)) != fVal {
-			t.Error(name)
-		}
+	}
+	slices.Sort(all)
+	if !slices.Equal(all, Names()) {
+		t.Error(all)
 	}
 }
 
@@ -133,8 +150,8 @@ func TestM2Numbers(t *testing.T) {
 		{"SUM", in{1, true, "2"}, 4}, {"SUM", in{row(2, 1, true, "2", empty)}, 1}, {"SUM", in{"x"}, fVal}, {"SUM", nil, 0}, {"SUM", in{row(2, 1, fNA), fDiv}, fNA}, {"SUM", in{"x", row(1, fNA)}, fVal}, {"SUM", in{1e308, 1e308}, fNum}, {"SUM", in{empty, neg0}, 0}, {"SUM", in{9007199254740992.0, 1, 1}, 9007199254740992.0},
 		{"PRODUCT", nil, 0}, {"PRODUCT", in{row(1, "a")}, 0}, {"PRODUCT", in{2, "3", row(2, 4, empty)}, 24}, {"PRODUCT", in{fDiv}, fDiv}, {"SUMSQ", in{3, 4}, 25}, {"SUMSQ", nil, 0}, {"AVERAGE", in{1, 2}, 1.5}, {"AVERAGE", nil, fDiv}, {"AVERAGE", in{row(1, "a")}, fDiv}, {"AVERAGE", in{row(3, 1, "9", 5)}, 3},
 		{"MIN", in{3, row(2, -1, true)}, -1}, {"MAX", in{3, row(2, 7, "9")}, 7}, {"MIN", nil, 0}, {"MAX", in{row(1, empty)}, 0}, {"MAX", in{neg0, 0}, 0}, {"MIN", in{0, neg0}, neg0}, {"MIN", in{5}, 5}, {"MAX", in{-5}, -5}, {"MAX", in{row(1, fRef)}, fRef},
-		{"MEDIAN", in{3, 1, 2, 10}, 2.5}, {"MEDIAN", in{3, 1, 2}, 2}, {"MEDIAN", nil, fNum}, {"MEDIAN", in{row(1, "1")}, fNum}, {"MEDIAN", in{0, neg0, neg0}, neg0}, {"MEDIAN", in{"x"}, fVal},
-		{"COUNT", in{1, "2", "x", true, empty, fDiv, row(5, 1, "2", true, empty, fDiv)}, 4}, {"COUNT", nil, 0}, {"COUNTA", in{1, "", empty, fDiv, row(2, empty, "a")}, 4}, {"COUNTA", nil, 0}, {"COUNTBLANK", in{row(4, empty, "", 0, " ")}, 2}, {"COUNTBLANK", in{empty}, 1}, {"COUNTBLANK", in{fDiv}, 0},
+		{"MEDIAN", in{3, 1, 2, 10}, 2.5}, {"MEDIAN", in{3, 1, 2}, 2}, {"MEDIAN", in{5, 1, 4, 2, 3}, 3}, {"MEDIAN", nil, fNum}, {"MEDIAN", in{row(1, "1")}, fNum}, {"MEDIAN", in{0, neg0, neg0}, neg0}, {"MEDIAN", in{"x"}, fVal},
+		{"COUNT", in{1, "2", "x", true, empty, fDiv, row(5, 1, "2", true, empty, fDiv)}, 4}, {"COUNT", nil, 0}, {"COUNTA", in{1, "", empty, fDiv, row(2, empty, "a")}, 4}, {"COUNTA", nil, 0}, {"COUNTBLANK", in{row(4, empty, "", 0, " ")}, 2}, {"COUNTBLANK", in{empty}, 1}, {"COUNTBLANK", in{row(5, "", "", 1, true, fDiv)}, 2}, {"COUNTBLANK", in{fDiv}, 0},
 		{"LARGE", in{row(4, 3, 1, "9", 2), 1}, 3}, {"LARGE", in{row(3, 3, 1, 2), 3}, 1}, {"SMALL", in{row(3, 3, 1, 2), 2}, 2}, {"SMALL", in{row(3, 3, 1, 2), 0}, fNum}, {"SMALL", in{row(3, 3, 1, 2), 4}, fNum}, {"LARGE", in{row(1, "a"), 1}, fNum}, {"LARGE", in{5, 1.9}, 5}, {"LARGE", in{row(1, fNA), fDiv}, fNA}, {"LARGE", in{row(1, 1), fDiv}, fDiv}, {"LARGE", in{row(1, 1), 1e300}, fNum}, {"SMALL", in{row(1, 1), "x"}, fVal}, {"LARGE", in{"x", fDiv}, fVal},
 		{"ABS", in{-2.5}, 2.5}, {"ABS", in{neg0}, 0}, {"ABS", in{"x"}, fVal}, {"ABS", in{row(2, 1, 2)}, fVal}, {"ABS", in{row(1, -1)}, 1}, {"ABS", in{row(1, empty)}, 0}, {"ABS", nil, fVal}, {"ABS", in{1, 2}, fVal}, {"SIGN", in{-3}, -1}, {"SIGN", in{neg0}, 0}, {"SIGN", in{0.1}, 1}, {"INT", in{-1.5}, -2}, {"INT", in{1.9}, 1}, {"INT", in{"2.5"}, 2}, {"SQRT", in{4}, 2}, {"SQRT", in{-1}, fNum}, {"SQRT", in{neg0}, neg0},
 		{"EVEN", in{1.5}, 2}, {"EVEN", in{-1}, -2}, {"EVEN", in{2}, 2}, {"EVEN", in{0}, 0}, {"EVEN", in{3.1}, 4}, {"ODD", in{0}, 1}, {"ODD", in{neg0}, 1}, {"ODD", in{1.5}, 3}, {"ODD", in{-2}, -3}, {"ODD", in{3}, 3}, {"ODD", in{0.1}, 1}, {"ODD", in{-0.1}, -1},
@@ -146,7 +163,7 @@ func TestM2Rounding(t *testing.T) {
 		{"TRUNC", in{-1.57, 1}, -1.5}, {"TRUNC", in{-1.57}, -1}, {"ROUND", in{2.345, 2}, 2.35}, {"ROUND", in{-1.5, 0}, -2}, {"ROUND", in{1250, -2}, 1300}, {"ROUND", in{1.005, 2}, 1}, {"ROUND", in{0.1, 1e9}, 0.1}, {"ROUND", in{5e299, -1e9}, 0}, {"ROUNDUP", in{1.21, 1}, 1.3}, {"ROUNDUP", in{-1.21, 1}, -1.3}, {"ROUNDUP", in{1, -400}, fNum}, {"ROUNDUP", in{1, -300}, 1e300}, {"ROUNDDOWN", in{-1.29, 1}, -1.2}, {"ROUNDDOWN", in{19, -1}, 10}, {"ROUND", in{1, 1e300}, fNum}, {"ROUND", in{fDiv, fNA}, fDiv}, {"ROUND", in{1, fNA}, fNA}, {"ROUND", in{-0.4, 0}, neg0}, {"ROUND", in{1}, fVal}, {"TRUNC", in{1, "x"}, fVal},
 		{"CEILING", in{2.1}, 3}, {"CEILING", in{2.1, 0.5}, 2.5}, {"CEILING", in{-2.1, 2}, -2}, {"CEILING", in{5, 0}, 0}, {"CEILING", in{2.1, -1}, 2}, {"FLOOR", in{2.9}, 2}, {"FLOOR", in{-2.1, 2}, -4}, {"FLOOR", in{1, neg0}, 0}, {"FLOOR", in{2.1, -1}, 3}, {"FLOOR", in{1, fNA}, fNA},
 		{"MOD", in{-7, 3}, 2}, {"MOD", in{7, -3}, -2}, {"MOD", in{7, 3}, 1}, {"MOD", in{6, -3}, 0}, {"MOD", in{-6, 3}, neg0}, {"MOD", in{1, 0}, fDiv}, {"MOD", in{"x", 0}, fVal}, {"MOD", in{1, neg0}, fDiv}, {"QUOTIENT", in{-7, 2}, -3}, {"QUOTIENT", in{7, 2}, 3}, {"QUOTIENT", in{1, 0}, fDiv}, {"QUOTIENT", in{1e300, 1e-300}, fNum}, {"POWER", in{2, 10}, 1024}, {"POWER", in{0, 0}, fNum}, {"POWER", in{0, -1}, fDiv}, {"POWER", in{2, 0.3}, fNum}, {"POWER", in{4, "0.5"}, 2}, {"POWER", in{"x", fDiv}, fVal},
-		{"FACT", in{5}, 120}, {"FACT", in{0}, 1}, {"FACT", in{5.9}, 120}, {"FACT", in{-0.5}, 1}, {"FACT", in{-1}, fNum}, {"FACT", in{171}, fNum}, {"FACT", in{170}, factorial170()}, {"GCD", in{12, 18}, 6}, {"GCD", in{0, 5}, 5}, {"GCD", in{0}, 0}, {"GCD", in{row(1, "a")}, 0}, {"GCD", in{-1}, fNum}, {"GCD", in{9007199254740993.0 + 1, 1}, fNum}, {"GCD", in{9007199254740992.0, 4}, 4}, {"GCD", nil, fVal}, {"GCD", in{12.9, "18"}, 6}, {"GCD", in{-1, fDiv}, fDiv}, {"LCM", in{4, 6}, 12}, {"LCM", in{4, 0}, 0}, {"LCM", in{row(1, empty)}, 0}, {"LCM", in{9007199254740992.0, 3}, fNum}, {"LCM", in{9007199254740992.0, 3, 0}, 0}, {"LCM", in{94906267, 94906266}, fNum}, {"LCM", in{94906265, 94906264}, 94906265.0 * 94906264}, {"LCM", in{1e300}, fNum}, {"LCM", in{0, -1}, fNum}, {"LCM", in{7}, 7},
+		{"FACT", in{5}, 120}, {"FACT", in{0}, 1}, {"FACT", in{5.9}, 120}, {"FACT", in{-0.5}, 1}, {"FACT", in{-1}, fNum}, {"FACT", in{171}, fNum}, {"FACT", in{170}, factorial170()}, {"GCD", in{12, 18}, 6}, {"GCD", in{0, 5}, 5}, {"GCD", in{0}, 0}, {"GCD", in{row(1, "a")}, 0}, {"GCD", in{-1}, fNum}, {"GCD", in{9007199254740993.0 + 1, 1}, fNum}, {"GCD", in{9007199254740992.0, 4}, 4}, {"GCD", nil, fVal}, {"GCD", in{12.9, "18"}, 6}, {"GCD", in{-1, fDiv}, fDiv}, {"LCM", in{4, 6}, 12}, {"LCM", in{4, 0}, 0}, {"LCM", in{row(1, empty)}, 0}, {"LCM", in{9007199254740992.0, 3}, fNum}, {"LCM", in{9007199254740992.0, 3, 0}, 0}, {"LCM", in{94906267, 94906266}, fNum}, {"LCM", in{94906265, 94906264}, 94906265.0 * 94906264}, {"LCM", in{1e300}, fNum}, {"LCM", in{0, -1}, fNum}, {"LCM", in{7}, 7}, {"LCM", in{9007199254740992.0}, 9007199254740992.0}, {"LCM", in{9007199254740992.0, 2}, 9007199254740992.0},
 		{"PI", nil, math.Pi}, {"TRUE", nil, true}, {"FALSE", nil, false}, {"NA", nil, fNA}, {"PI", in{1}, fVal}, {"NOPE", nil, fName}, {"sum", in{1}, fName}, {"", nil, fName},
 	})
 }

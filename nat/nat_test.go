@@ -164,11 +164,14 @@ func TestN3(t *testing.T) {
 }
 
 func TestN3Pow(t *testing.T) {
-	for _, c := range []struct{ base, n int }{{10, 20}, {0, 0}, {0, 1}, {1, math.MaxInt}, {2, 8191}, {5, 1074}, {1000000, 411}, {999983, 410}, {3, 5168}} {
+	for _, c := range []struct{ base, n int }{{10, 20}, {0, 0}, {0, 1}, {0, math.MaxInt}, {1, math.MaxInt}, {2, 8191}, {5, 1074}, {1000000, 411}, {999983, 410}, {3, 5168}} {
 		x, e := Pow(c.base, c.n)
 		want := big.NewInt(1)
-		if c.base != 1 {
+		if c.base != 1 && c.n < math.MaxInt {
 			want.Exp(big.NewInt(int64(c.base)), big.NewInt(int64(c.n)), nil)
+		}
+		if c.base == 0 && c.n > 0 {
+			want.SetInt64(0)
 		}
 		if e != 0 || !same(x, want) {
 			t.Error(c, e)

@@ -52,6 +52,7 @@ func TestG1(t *testing.T) {
 		{Section{Items: join(dig("0"), one(Slash), dig("0"))}, Fraction}, {Section{Items: join(dig("0"), lit(" "), dig("?"), one(Slash), dig("????"), lit("x"), one(Money))}, Fraction}, {Section{Items: join(dig("0"), lit(" "), one(Slash), dig("0"))}, None}, {Section{Items: join(one(Slash), dig("0"))}, None}, {Section{Items: join(dig("0"), one(Slash))}, None}, {Section{Items: join(dig("0"), one(Slash), dig("00000"))}, None}, {Section{Items: join(dig("0"), one(Slash), dig("0"), one(Slash), dig("0"))}, None}, {Section{Items: join(dig("0"), one(Slash), dig("0"), one(Percent))}, None}, {Section{Items: join(dig("0"), one(Slash), dig("0"), one(Point))}, None}, {Section{Items: join(dig("0"), one(Slash), dig("0"), exp("+"))}, None}, {Section{Items: join(dig(strings.Repeat("0", 31)), one(Slash), dig("0"))}, None}, {Section{Items: join(dig(strings.Repeat("0", 30)), one(Slash), dig("0-0"))}, None}, {Section{Items: join(dig("0"), one(Slash), dig("0"), lit("-"), dig("0"))}, Fraction},
 		{Section{Items: dig("00"), Grouped: true}, Number}, {Section{Items: dig("0"), Grouped: true}, None}, {Section{Items: join(dig("0"), lit("-"), dig("0")), Grouped: true}, None}, {Section{Items: join(dig("0"), one(Point), dig("00")), Grouped: true}, None}, {Section{Items: dig("0"), Scale: 9}, Number}, {Section{Items: dig("0"), Scale: 10}, None}, {Section{Items: dig("0"), Scale: -1}, None}, {Section{Items: join(one(Point), dig("0")), Scale: 1}, None}, {Section{Items: one(General), Grouped: true}, None}, {Section{Scale: 1}, None}, {Section{Items: join(dig("00"), exp("+"), dig("0")), Grouped: true}, None},
 		{Section{Items: []Item{{Kind: 0}}}, None}, {Section{Items: []Item{{Kind: 10}}}, None}, {Section{Items: []Item{{Kind: -1}}}, None}, {Section{Items: []Item{{Literal, ""}}}, None}, {Section{Items: []Item{{Literal, "ab"}}}, None}, {Section{Items: []Item{{Literal, "\xff"}}}, None}, {Section{Items: []Item{{Literal, "\ufffd"}}}, Plain}, {Section{Items: []Item{{Digit, "1"}}}, None}, {Section{Items: []Item{{Money, "$"}}}, None}, {Section{Items: join(dig("0"), []Item{{Exp, ""}}, dig("0"))}, None},
+		{Section{Items: join(one(General), one(Whole), dig("0"))}, None}, {Section{Items: join(one(Whole), dig("0"))}, None}, {Section{Items: join(dig("0"), one(Point), one(Percent), dig("0"), one(Slash), dig("0"))}, None}, {Section{Items: join(one(Percent), dig("0"), one(Slash), dig("0"), exp("+"))}, None},
 	} {
 		if x := Shape(c.s); x != c.want {
 			t.Error(i, c.s, x)
@@ -70,6 +71,19 @@ func TestG1(t *testing.T) {
 		}
 		if s := Print(Pattern{c.l}); !c.want && s != "" {
 			t.Error(i, s)
+		}
+	}
+}
+
+func TestG1Constants(t *testing.T) {
+	for i, kind := range []int{Literal, Digit, Point, Percent, Exp, Slash, General, Whole, Money} {
+		if kind != i+1 {
+			t.Error(i)
+		}
+	}
+	for i, shape := range []int{None, Plain, Number, Power, Fraction, Common, Words} {
+		if shape != i {
+			t.Error(i)
 		}
 	}
 }

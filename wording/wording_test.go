@@ -13,7 +13,7 @@ func TestValue(t *testing.T) {
 		v    api.Value
 		want string
 	}{
-		{api.Value{}, "empty"}, {api.Value{Kind: api.Number, Bits: 0x3FB999999999999A}, "number 0.1"}, {api.Value{Kind: api.Number, Bits: api.NegZero}, "number -0"}, {api.Value{Kind: api.Bool, Is: true}, "bool TRUE"}, {api.Value{Kind: api.Bool}, "bool FALSE"}, {api.Value{Kind: api.Text, Text: "a\"é"}, `text "a\"\xc3\xa9"`}, {api.Value{Kind: api.Fail, Fail: 7}, "error #N/A"},
+		{api.Value{}, "empty"}, {api.Value{Kind: api.Number, Bits: 0x3FB999999999999A}, "number 0.1"}, {api.Value{Kind: api.Number, Bits: api.NegZero}, "number -0"}, {api.Value{Kind: api.Bool, Is: true}, "bool TRUE"}, {api.Value{Kind: api.Bool}, "bool FALSE"}, {api.Value{Kind: api.Text, Text: "a\"é"}, `text "a\"\xc3\xa9"`}, {api.Value{Kind: api.Fail, Fail: 7}, "error #N/A"}, {api.Value{Kind: api.Text, Text: " ~\x7f\x1f"}, `text " ~\x7f\x1f"`},
 	} {
 		if s := Value(c.v, shortest.New()); s != c.want {
 			t.Error(c, s)
